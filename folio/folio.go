@@ -6,9 +6,6 @@ import (
 	"folio/suffix"
 )
 
-// Index keeps documents.
-type Index struct{}
-
 // Order sorts the suffixes of a text (P3).
 func Order(text string) ([]int, api.Errno) {
 	if len(text) > api.MaxText {
@@ -47,32 +44,3 @@ func Rows(last string, row int, pattern string) (int, int, api.Errno) {
 	first, behind := suffix.Rows(text, pattern)
 	return first, behind, api.OK
 }
-
-// New makes an index (P7).
-func New(c api.Config) (*Index, api.Errno) { return nil, api.OK }
-
-// Insert takes a document (P8).
-func (x *Index) Insert(doc string) (int, api.Errno) { return 0, api.OK }
-
-// Delete lets a document go (P9).
-func (x *Index) Delete(id int) api.Errno { return api.OK }
-
-// Count counts a pattern's occurrences (P10).
-func (x *Index) Count(pattern string) (int, api.Errno) { return 0, api.OK }
-
-// Locate tells a pattern's occurrences, a page at a time (P11).
-func (x *Index) Locate(pattern string, version int, id int, at int) ([]api.Hit, bool, api.Errno) {
-	return nil, false, api.OK
-}
-
-// Extract tells bytes of a document (P12).
-func (x *Index) Extract(id int, from int, to int) (string, api.Errno) { return "", api.OK }
-
-// List tells which documents are there (P13).
-func (x *Index) List(after int, n int) ([]int, api.Errno) { return nil, api.OK }
-
-// Version tells how many changes there have been (P13).
-func (x *Index) Version() int { return 0 }
-
-// Stats tells of the parts (P15).
-func (x *Index) Stats() api.Stats { return api.Stats{} }

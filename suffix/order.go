@@ -13,11 +13,19 @@ func Ahead(text string, bytes string) int {
 	return count
 }
 
+// Stands tells whether a pattern's bytes stand in a text at an offset.
+func Stands(text string, pattern string, at int) bool {
+	if at < 0 || at > len(text)-len(pattern) {
+		return false
+	}
+	return text[at:at+len(pattern)] == pattern
+}
+
 // Begun counts the suffixes of a text that begin with a pattern.
 func Begun(text string, pattern string) int {
 	count := 0
-	for at := 0; at <= len(text)-len(pattern); at++ {
-		if text[at:at+len(pattern)] == pattern {
+	for at := 0; at <= len(text); at++ {
+		if Stands(text, pattern, at) {
 			count++
 		}
 	}

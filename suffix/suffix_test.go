@@ -28,6 +28,30 @@ func TestCounts(t *testing.T) {
 	}
 }
 
+func TestStands(t *testing.T) {
+	for _, c := range []struct {
+		text, pattern string
+		at            int
+		stands        bool
+	}{
+		{"abab", "ab", 0, true},
+		{"abab", "ab", 1, false},
+		{"abab", "ab", 2, true},
+		{"abab", "ab", 3, false},
+		{"abab", "", 4, true},
+		{"abab", "", 5, false},
+		{"abab", "a", -1, false},
+		{"abab", "ababa", 0, false},
+		{"abab", "ab", 1<<63 - 1, false},
+		{"abab", "ab", -1 << 63, false},
+		{"", "", 0, true},
+	} {
+		if stands := Stands(c.text, c.pattern, c.at); stands != c.stands {
+			t.Errorf("Stands(%q, %q, %d) = %v, want %v", c.text, c.pattern, c.at, stands, c.stands)
+		}
+	}
+}
+
 // TestNoBound: the bound of a text is the calls' own; here a text may be longer.
 func TestNoBound(t *testing.T) {
 	text := strings.Repeat("cabbage", 50)

@@ -23,7 +23,7 @@ func New(c api.Config) (*Index, api.Errno) {
 	if c.Page < 1 || c.Page > api.MaxPage {
 		return nil, api.ErrConfig
 	}
-	return &Index{config: c}, api.OK
+	return &Index{config: c, docs: shelf.New(c.Buffer)}, api.OK
 }
 
 // Insert takes a document (P8).
@@ -31,12 +31,8 @@ func (x *Index) Insert(doc string) (int, api.Errno) {
 	if len(doc) > api.MaxDoc {
 		return 0, api.ErrLong
 	}
-	bytes := x.docs.Bytes()
-	if bytes+len(doc) > x.config.Cap {
-		return 0, api.ErrFull
-	}
-	docs := x.docs.Docs()
-	if docs >= api.MaxDocs {
+	stats := x.docs.Stats()
+	if stats.Bytes+len(doc) > x.config.Cap || stats.Docs >= api.MaxDocs {
 		return 0, api.ErrFull
 	}
 	id := x.docs.Add(doc)
@@ -46,11 +42,10 @@ func (x *Index) Insert(doc string) (int, api.Errno) {
 
 // Delete lets a document go (P9).
 func (x *Index) Delete(id int) api.Errno {
-	_, there := x.docs.Find(id)
+	there := x.docs.Remove(id)
 	if !there {
 		return api.ErrNone
 	}
-	x.docs.Remove(id)
 	x.version++
 	return api.OK
 }
@@ -103,4 +98,4 @@ func (x *Index) List(after int, n int) ([]int, api.Errno) {
 func (x *Index) Version() int { return x.version }
 
 // Stats tells of the parts (P15).
-func (x *Index) Stats() api.Stats { return api.Stats{} }
+func (x *Index) Stats() api.Stats { return x.docs.Stats() }

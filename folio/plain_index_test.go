@@ -19,6 +19,7 @@ type plainIndex struct {
 	texts   []string
 	gone    []bool
 	version int
+	parts   plainParts
 }
 
 func (p *plainIndex) there(id int) bool {
@@ -49,6 +50,8 @@ func (p *plainIndex) insert(doc string) (int, api.Errno) {
 	p.texts = append(p.texts, doc)
 	p.gone = append(p.gone, false)
 	p.version++
+	p.parts.live = append(p.parts.live, len(p.texts)-1)
+	p.rebuild(len(doc) + 1)
 	return len(p.texts) - 1, api.OK
 }
 
@@ -58,6 +61,8 @@ func (p *plainIndex) delete(id int) api.Errno {
 	}
 	p.gone[id] = true
 	p.version++
+	p.parts.live = slices.DeleteFunc(p.parts.live, func(other int) bool { return other == id })
+	p.rebuild(len(p.texts[id]) + 1)
 	return api.OK
 }
 
@@ -102,6 +107,8 @@ type pair struct {
 	t     *testing.T
 	x     *folio.Index
 	plain plainIndex
+	// The weights that came and went since the rebuild that is on began.
+	since int
 }
 
 func newPair(t *testing.T, c api.Config) *pair {
@@ -115,20 +122,28 @@ func newPair(t *testing.T, c api.Config) *pair {
 
 func (p *pair) insert(doc string) {
 	p.t.Helper()
+	before := p.x.Stats()
 	id, err := p.x.Insert(doc)
 	if wantId, want := p.plain.insert(doc); id != wantId || err != want {
 		p.t.Fatalf("P8: %+v: Insert(%.50q) = %d, %d, want %d, %d", p.plain.config, doc, id, err, wantId, want)
 	}
 	p.checkVersion()
+	p.checkParts(before, err, len(doc)+1)
 }
 
 func (p *pair) delete(id int) {
 	p.t.Helper()
+	before := p.x.Stats()
 	err := p.x.Delete(id)
 	if want := p.plain.delete(id); err != want {
 		p.t.Fatalf("P9: %+v: Delete(%d) = %d, want %d", p.plain.config, id, err, want)
 	}
 	p.checkVersion()
+	weight := 0
+	if err == api.OK {
+		weight = len(p.plain.texts[id]) + 1
+	}
+	p.checkParts(before, err, weight)
 }
 
 func (p *pair) checkVersion() {
